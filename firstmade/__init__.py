@@ -1,0 +1,1 @@
+"""Firstmade: values made at first use by one of any number of hands."""
