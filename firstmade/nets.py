@@ -39,16 +39,16 @@ def ring_from(needs, first):
     """A shortest ring that begins with a value, or None."""
     paths = [(first,)]
     met = []
-    while paths:
-        longer = []
-        for path in paths:
-            for need in needs[path[-1]]:
-                if need == first:
-                    return list(path)
-                if need not in met:
-                    met.append(need)
-                    longer.append((*path, need))
-        paths = longer
+    at = 0
+    while at < len(paths):
+        path = paths[at]
+        for need in needs[path[-1]]:
+            if need == first:
+                return list(path)
+            if need not in met:
+                met.append(need)
+                paths.append((*path, need))
+        at += 1
     return None
 
 

@@ -289,6 +289,12 @@ class TestRings(NetCase):
         self.assertEqual(net.ring(), ["d", "e"])
         self.assertEqual(Net({"b": ("c", "a"), "c": ("d",), "d": ("b",), "a": ()}).ring(), ["b", "c", "d"])
 
+    def test_of_equally_short_rings_the_one_that_is_met_first(self):
+        self.assertEqual(Net({"a": ("c", "b"), "b": ("a",), "c": ("a",)}).ring(), ["a", "c"])
+        self.assertEqual(Net({"a": ("b", "c"), "b": ("a",), "c": ("a",)}).ring(), ["a", "b"])
+        net = Net({"a": ("c", "b"), "b": ("d",), "c": ("e",), "d": ("a",), "e": ("a",)})
+        self.assertEqual(net.ring(), ["a", "c", "e"])
+
     def test_orders(self):
         for needs in small_nets() + large_nets():
             self.assertEqual(Net(needs).order(), told_order(needs))
