@@ -274,3 +274,8 @@ class NetBook(Book):
     @needs.setter
     def needs(self, value):
         self["needs"] = value
+
+
+def is_book(value):
+    """Whether any value is a book of one of the four kinds."""
+    return isinstance(value, (FirstBook, WakingBook, LateBook, NetBook))
