@@ -9,13 +9,12 @@ from firstmade.breaking import breaking, breaks
 from firstmade.errors import MadeError, NoBook, NoFault, NoSetting, TooMany
 from firstmade.nets import Net
 from firstmade.rules import first_state, is_fault
-from firstmade.searches import all_states, stuck_hands
+from firstmade.searches import all_states, shortest, stuck_hands
 from firstmade.settings import Setting
 from firstmade.verdicts import faults
 from tests.exploring import first_books, late_books, net_books, waking_books
 from tests.odd_values import Touchy, odd_values
-from tests.test_searches import NO_SETTINGS, RIGHT_NET, RING, SELF_NET, SETTINGS
-from tests.test_verdicts import NO_BOOKS
+from tests.samples import NO_BOOKS, NO_SETTINGS, RIGHT_NET, RING, SELF_NET, SETTINGS, WIDE_NET
 
 WORDS = ("half", "twice", "itself", "stuck")
 
@@ -105,8 +104,22 @@ class TestBreaking(BreakingCase):
         self.assertEqual(self.shows(SELF_NET, "itself")[1], [(0, "a"), (0, "own"), (0, "need"), (0, "ask")])
         setting, run = self.shows(WakingBook(wake="one"), "stuck")
         self.assertEqual(stuck_hands(setting, end_of(setting, run)), [2])
+        for book, many in ((WakingBook(failure="left"), 3), (WakingBook(wake="none"), 3), (WakingBook(wait="doze"), 4),
+                           (WakingBook(wait="doze", wake="none"), 3), (WakingBook(wake="one"), 6)):
+            self.assertEqual(len(self.shows(book, "stuck")[1]), many)
         setting, run = self.shows(RING, "stuck")
         self.assertEqual(stuck_hands(setting, end_of(setting, run)), [1])
+
+    def test_half_and_twice_with_two_hands_and_makings_and_itself_with_one_hand(self):
+        for book in first_books() + late_books():
+            for word in faults(book):
+                setting, run = breaking(book, word)
+                self.assertEqual((setting.hands, setting.makes), (2, 2))
+                self.assertEqual(run, shortest(setting, kind=word))
+        for book in (SELF_NET, RING, NetBook(Net({**{name: () for name in "bcde"}, "a": ("b", "c", "d", "e", "a")}))):
+            setting, run = breaking(book, "itself")
+            self.assertEqual(setting.hands, 1)
+            self.assertEqual(run, shortest(setting, kind="itself"))
 
     def test_right_books_have_none(self):
         for book in (FirstBook(), WakingBook(), LateBook(), RIGHT_NET):
@@ -237,24 +250,22 @@ class TestBreaks(BreakingCase):
 
 
 class TestTooMany(BreakingCase):
-    NET = Net({"a": ("b", "c", "d", "e"), "b": ("c", "d", "e"), "c": ("d", "e"), "d": ("e",), "e": ()})
-
     def test_more_states_than_twenty_thousand(self):
         """Hand 3 comes out only behind many moves, and the others have very many weavings meanwhile."""
-        setting = Setting(NetBook(self.NET), 4)
+        setting = Setting(NetBook(WIDE_NET), 4)
         with self.assertRaises(TooMany) as caught:
             breaks(setting, [(3, "a")], "stuck")
         self.assertEqual(caught.exception.most, 20000)
 
     def test_no_search_for_other_words_and_runs(self):
-        setting = Setting(NetBook(self.NET), 4)
+        setting = Setting(NetBook(WIDE_NET), 4)
         for word in ("itself", "half", "any", None):
             self.assertIs(breaks(setting, [(3, "a")], word), False)
         self.assertIs(breaks(setting, [(3, "a"), (3, "make")], "stuck"), False)
         self.assertIs(breaks(setting, [], "stuck"), False)
 
     def test_twenty_thousand_are_enough_where_two_thousand_are_not(self):
-        setting = Setting(NetBook(self.NET), 3)
+        setting = Setting(NetBook(WIDE_NET), 3)
         with self.assertRaises(TooMany):
             stuck_hands(setting, end_of(setting, [(2, "a")]))
         self.assertIs(breaks(setting, [(2, "a")], "stuck"), False)

@@ -14,7 +14,7 @@ from firstmade.verdicts import is_right
 from tests.exploring import come_to, first_books, late_books, net_books, waking_books
 from tests.measuring import behind_run
 from tests.odd_values import odd_values
-from tests.test_searches import NO_SETTINGS, RIGHT_NET, RING, SELF_NET
+from tests.samples import NO_SETTINGS, RIGHT_NET, RING, SELF_NET, WIDE_NET
 
 
 class EndingCase(unittest.TestCase):
@@ -60,7 +60,7 @@ class TestEndings(EndingCase):
     def test_large_nets_from_states_that_drawn_runs_come_to(self):
         """Settings of so many states that none could be searched through."""
         drawn = random.Random(7)
-        nets = [Net({"a": ("b", "c", "d", "e"), "b": ("c", "d", "e"), "c": ("d", "e"), "d": ("e",), "e": ()}),
+        nets = [WIDE_NET,
                 Net({"a": (), "b": ("a",), "c": ("b", "a"), "d": ("a", "c"), "e": ("d", "b")}),
                 Net({name: () for name in "abcde"})]
         for net in nets:

@@ -4,32 +4,15 @@ import unittest
 
 from firstmade.books import FirstBook, LateBook, NetBook, WakingBook
 from firstmade.errors import MadeError, NoNumber, NoSetting, TooMany
-from firstmade.nets import Net
 from firstmade.rules import first_state, is_fault, is_out, moves, step
 from firstmade.searches import all_states, shortest, stuck_hands, way_out
 from firstmade.settings import Setting
 from tests.exploring import come_to, first_books, late_books, net_books, waking_books
 from tests.measuring import behind_run, distances, frees, least_run
-from tests.odd_values import Alike, Touchy, odd_values
+from tests.odd_values import Touchy, odd_values
+from tests.samples import NO_NUMBERS, NO_SETTINGS, RING, SELF_NET, SETTINGS, WIDE_NET
 
-SELF_NET = NetBook(Net({"a": ("a",)}))
-RING = NetBook(Net({"a": ("b",), "b": ("a",)}))
-RIGHT_NET = NetBook(Net({"a": ("b",), "b": ()}))
-SETTINGS = [
-    Setting(FirstBook()), Setting(FirstBook.bare(), 3), Setting(FirstBook(look="flag", guard="claim"), 2, makes=1),
-    Setting(FirstBook(look="none", guard="swap", writing="cell parts flag"), makes=3),
-    Setting(FirstBook(look="flag", guard="none", again="never", writing="flag parts cell")),
-    Setting(WakingBook()), Setting(WakingBook(wake="none"), 2), Setting(WakingBook(wait="doze", wake="chain"), 3),
-    Setting(WakingBook(failure="left"), 3, fails=2), Setting(WakingBook(wake="one"), 3, fails=0),
-    Setting(WakingBook(wait="spin"), 1), Setting(LateBook()), Setting(LateBook(fences=()), 3),
-    Setting(LateBook(look="flag", fences=("cell",)), 2), Setting(LateBook(look="flag", fences=("cell", "reads")), 3),
-    Setting(SELF_NET, 2), Setting(RING, 2), Setting(RING, 1), Setting(RIGHT_NET, 3),
-    Setting(NetBook(Net({"a": ("b", "c"), "b": ("c",), "c": ("b",), "d": ()}), guard="one"), 2),
-]
 WORDS = ("any", "half", "twice", "itself")
-NO_NUMBERS = [value for value in odd_values() if isinstance(value, bool) or not isinstance(value, int)]
-NO_NUMBERS += [0, -1, -10 ** 50, 2000.0, "2000", "", [1], (1,), {1: 1}, Alike(), Touchy()]
-NO_SETTINGS = odd_values() + [FirstBook(), Setting, (FirstBook(), 2, 2, 1), {"book": FirstBook()}]
 
 
 def by_breadth(setting):
@@ -86,12 +69,15 @@ class TestAllStates(SearchCase):
                 self.too_many(most, all_states, setting)
 
     def test_two_thousand_unless_told(self):
-        large = Setting(WakingBook(wait="sleep", wake="one"), 4, fails=4)
+        large, wide = Setting(WakingBook(wait="sleep", wake="one"), 4, fails=4), Setting(NetBook(WIDE_NET), 4)
         self.assertGreater(len(all_states(large, most=10000)), 2000)
-        for call in (all_states, shortest):
+        state = step(wide, first_state(wide), (3, "a"))
+        for call in (lambda: all_states(large), lambda: shortest(large), lambda: way_out(wide, state, 3),
+                     lambda: stuck_hands(wide, state)):
             with self.assertRaises(TooMany) as caught:
-                call(large)
+                call()
             self.assertEqual(caught.exception.most, 2000)
+        self.assertEqual(way_out(wide, state, 2), [])
 
     def test_of_every_book(self):
         for book in first_books()[::7] + waking_books() + late_books() + net_books("ab"):

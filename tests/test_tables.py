@@ -10,7 +10,7 @@ from firstmade.searches import all_states, shortest
 from firstmade.settings import Setting
 from firstmade.tables import Table, gap, is_closed
 from tests.odd_values import Alike, Touchy, odd_values
-from tests.test_searches import NO_SETTINGS, RIGHT_NET, RING, SETTINGS
+from tests.samples import NO_SETTINGS, RIGHT_NET, RING, SETTINGS
 
 
 def within(many):

@@ -3,7 +3,7 @@
 import unittest
 
 from firstmade.benches import end_of
-from firstmade.books import Book, FirstBook, LateBook, NetBook, WakingBook
+from firstmade.books import FirstBook, LateBook, NetBook, WakingBook
 from firstmade.errors import MadeError, NoBook, NoNumber, NoValue
 from firstmade.nets import Net
 from firstmade.settings import Setting
@@ -11,10 +11,7 @@ from firstmade.verdicts import faults, is_right, least_fences, most_makings
 from tests.exploring import (FENCES, WRITINGS, come_to, fault_words, first_books, late_books, net_books, small_nets,
                              some_hand_is_stuck, waking_books)
 from tests.odd_values import Alike, Touchy, odd_values
-
-RIGHT_NET = NetBook(Net({"a": ("b",), "b": ()}))
-NO_BOOKS = odd_values() + ["first", "first cell lock cell parts+cell+flag", FirstBook, Book, Book(), Setting(FirstBook()),
-                           Net({"a": ()}), FirstBook().switches(), dict(FirstBook().switches())]
+from tests.samples import NO_BOOKS, RIGHT_NET
 
 
 class VerdictCase(unittest.TestCase):
